@@ -1,0 +1,1 @@
+"""Attachhall: panes that go on while hands come and go."""

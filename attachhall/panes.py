@@ -1,0 +1,120 @@
+"""A pane: rows, a line that is typed, and perhaps a job that goes on by beats."""
+
+from attachhall.errors import BadSign
+
+KEYS = "abcdefghijklmnopqrstuvwxyz0123456789 <;"
+LINE_SIGNS = 30
+ROWS_KEPT = 40
+TYPED_KEPT = 100
+CHANGES_KEPT = 30
+SAY = "say "
+MANY = "many "
+
+
+def job_size(line):
+    """Tell how many rows the job has that a line begins, 0 if it begins none."""
+    figures = line.removeprefix(MANY)
+    if figures == line or not figures.isdigit():
+        return 0
+    # A needless 0 makes it another line; so does the number 0 itself.
+    if figures.startswith("0") or len(figures) > 2:
+        return 0
+    return int(figures)
+
+
+class Pane:
+    """What hands look at and type into."""
+
+    def __init__(self):
+        self._rows = []
+        self._line = ""
+        self._job = None
+        self._typed = []
+        self._changes = 0
+        self._latest = []
+
+    def press(self, look, session, sign):
+        """Type one sign, for a session of a look."""
+        if len(sign) != 1 or sign not in KEYS:
+            raise BadSign(0)
+        self._typed.append((look, session, sign))
+        del self._typed[:-TYPED_KEPT]
+        if sign == ";":
+            self._do_line()
+        elif sign == "<":
+            self._set_line(self._line[:-1])
+        elif len(self._line) < LINE_SIGNS:
+            self._set_line(self._line + sign)
+
+    def beat(self):
+        """Let the job go on by a row, if there is one."""
+        if self._job is None:
+            return
+        before, size = self._job
+        number = before + 1
+        self._add_row(f"{number} of {size}")
+        self._job = (number, size) if number < size else None
+
+    def rows(self):
+        """Tell the last rows that came."""
+        return list(self._rows)
+
+    def line(self):
+        """Tell the line that is typed."""
+        return self._line
+
+    def job(self):
+        """Tell how many rows came of the job and how many in all; None for no job."""
+        return self._job
+
+    def changes(self):
+        """Tell how many changes there were."""
+        return self._changes
+
+    def typed(self):
+        """Tell the last signs that were typed, each with its look and session."""
+        return list(self._typed)
+
+    def since(self, number):
+        """Tell the changes behind so many; None if they are not all kept."""
+        first = self._changes - len(self._latest)
+        if number < first or number > self._changes:
+            return None
+        return self._latest[number - first:]
+
+    def _do_line(self):
+        line = self._line
+        self._add_row("> " + line)
+        self._set_line("")
+        size = job_size(line)
+        if line.startswith(SAY):
+            self._add_row(line.removeprefix(SAY))
+        elif line == "clear":
+            self._clear_rows()
+        elif line == "stop" and self._job is not None:
+            self._job = None
+        elif size > 0:
+            self._job = (0, size)
+        elif line != "":
+            self._add_row("? " + line)
+
+    def _add_row(self, row):
+        self._rows.append(row)
+        del self._rows[:-ROWS_KEPT]
+        self._add_change("row", row)
+
+    def _clear_rows(self):
+        self._rows = []
+        self._add_change("clear", "")
+
+    def _set_line(self, line):
+        # A line that stays as it is makes no change.
+        if line == self._line:
+            return
+        self._line = line
+        self._add_change("line", line)
+
+    def _add_change(self, kind, text):
+        self._changes += 1
+        self._latest.append((kind, text))
+        del self._latest[:-CHANGES_KEPT]
