@@ -1,7 +1,10 @@
 """A pane: rows, a line that is typed, and perhaps a job that goes on by beats."""
 
 from attachhall.errors import BadSign
+from attachhall.figures import number_of
 
+# A hall has no more panes.
+MOST_PANES = 3
 KEYS = "abcdefghijklmnopqrstuvwxyz0123456789 <;"
 LINE_SIGNS = 30
 ROWS_KEPT = 40
@@ -11,15 +14,20 @@ SAY = "say "
 MANY = "many "
 
 
+def wrong_place(signs):
+    """Tell the place of the first sign that cannot be typed; None if all can."""
+    for place, sign in enumerate(signs):
+        if sign not in KEYS:
+            return place
+    return None
+
+
 def job_size(line):
     """Tell how many rows the job has that a line begins, 0 if it begins none."""
-    figures = line.removeprefix(MANY)
-    if figures == line or not figures.isdigit():
+    if not line.startswith(MANY):
         return 0
-    # A needless 0 makes it another line; so does the number 0 itself.
-    if figures.startswith("0") or len(figures) > 2:
-        return 0
-    return int(figures)
+    # A number with a needless 0 is none; nor is one of more figures than 99 has.
+    return number_of(line.removeprefix(MANY), 2) or 0
 
 
 class Pane:
@@ -35,7 +43,7 @@ class Pane:
 
     def press(self, look, session, sign):
         """Type one sign, for a session of a look."""
-        if len(sign) != 1 or sign not in KEYS:
+        if len(sign) != 1 or wrong_place(sign) is not None:
             raise BadSign(0)
         self._typed.append((look, session, sign))
         del self._typed[:-TYPED_KEPT]
