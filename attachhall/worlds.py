@@ -9,6 +9,11 @@ TO_HALL = "hall"
 ROUNDS = 60
 
 
+def is_through(look, changes):
+    """Tell whether a look knows all changes of its pane, and nothing waits."""
+    return look.known() == changes and look.waiting() == 0
+
+
 class World:
     """Does steps; all that is lost, late or heard twice is told by them."""
 
@@ -74,7 +79,8 @@ class World:
         return self._looks[name]
 
     def _come(self, name, pane, wide, high):
-        if pane < 0 or pane >= self._many:
+        # Ahead of the look, which would refuse its size first.
+        if pane >= self._many:
             raise BadLook(f"there is no pane {pane}")
         session = self._sessions.get(name, 0) + 1
         # Made first: if it is refused, nothing of the name changes.
@@ -131,14 +137,9 @@ class World:
 
     def _is_settled(self):
         changes = [pane[3] for pane in self._hall.panes()]
-        there = self._hall.looks()
-        return all([self._is_through(look, changes[look.pane], there)
+        # The hall heard just now of each look that left: it is not there.
+        return all([look.has_left() or is_through(look, changes[look.pane])
                     for look in self._looks.values()])
-
-    def _is_through(self, look, changes, there):
-        if look.has_left():
-            return (look.name, look.session, look.pane) not in there
-        return look.known() == changes and look.waiting() == 0
 
 
 def played(many, steps):

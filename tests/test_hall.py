@@ -198,6 +198,12 @@ class LooksTest(unittest.TestCase):
                 self.assertEqual(hall.looks(), [(0, 2, 0)])
                 self.assertEqual(hall.panes()[0][1], "abc")
 
+    def test_a_session_stays_at_its_pane(self):
+        hall = heard(Hall(2), look_at(0, 1, 0, "ab"))
+        state = state_of_hall(hall)
+        heard(hall, look_at(0, 1, 1, "abc"))
+        self.assertEqual(state_of_hall(hall), state)
+
     def test_letters_cut_off_change_nothing(self):
         leaving = look_at(0, 1, 0)
         leaving.leave()
@@ -212,12 +218,8 @@ class LooksTest(unittest.TestCase):
     def test_other_texts_change_nothing(self):
         hall = heard(Hall(1), look_at(0, 1, 0, "a"))
         state = state_of_hall(hall)
-        kinds = ["typed", "left", "shown"]
-        junk = [packed([kind] + ["0"] * many) for kind in kinds for many in range(5)]
-        junk += [packed([kind, "0", "1", "0", number, "x"]) for kind in kinds
-                 for number in ["", "a", "01", " 1", "1" * 21]]
         told = [text for _, text in hall.letters()]
-        for text in ["", "!", "hello", packed([""]), packed(["a", "b"])] + junk + told:
+        for text in ["", "!", "hello", packed([""]), packed(["a", "b"])] + told:
             hall.hear(text)
             with self.subTest(text=text):
                 self.assertEqual(state_of_hall(hall), state)
@@ -269,15 +271,16 @@ class TypedOnceTest(unittest.TestCase):
 
     def test_a_part_that_is_missing_is_waited_for(self):
         for part in [slice(None, None, -1), slice(1, None), slice(None, None, 2)]:
-            look = look_at(0, 1, 0, "abcd;" * 1000)
+            signs = "".join(f"say {number};" for number in range(700))
+            look = look_at(0, 1, 0, signs)
             hall, (pane,) = recorded_hall(1)
             for text in look.letters()[part]:
                 hall.hear(text)
             with self.subTest(part=part):
                 done = signs_of(pane, 0, 1)
-                self.assertEqual(done, ("abcd;" * 1000)[:len(done)])
+                self.assertEqual(done, signs[:len(done)])
                 joined(hall, look)
-                self.assertEqual(signs_of(pane, 0, 1), "abcd;" * 1000)
+                self.assertEqual(signs_of(pane, 0, 1), signs)
 
     def test_two_looks_at_one_pane(self):
         hall, (pane,) = recorded_hall(1)
