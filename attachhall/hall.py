@@ -1,5 +1,6 @@
 """The hall: panes, and the looks that are there."""
 
+from attachhall.bounds import is_within
 from attachhall.errors import BadCount
 from attachhall.mail import LEFT, hall_letter, read_look_letter
 from attachhall.panes import MOST_PANES, Pane
@@ -19,7 +20,7 @@ class Hall:
     """Holds the panes, and hears and tells the letters about them."""
 
     def __init__(self, many):
-        if many < 1 or many > MOST_PANES:
+        if not is_within(many, 1, MOST_PANES):
             raise BadCount(f"a hall has 1 to {MOST_PANES} panes, not {many}")
         self._panes = [Pane() for _ in range(many)]
         # By names; a session that left stays, so that no letter of it counts.
@@ -54,7 +55,7 @@ class Hall:
 
     def typed(self, pane):
         """Tell what was typed into a pane."""
-        if pane < 0 or pane >= len(self._panes):
+        if not is_within(pane, 0, len(self._panes) - 1):
             raise BadCount(f"there is no pane {pane}")
         return self._panes[pane].typed()
 

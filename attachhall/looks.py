@@ -1,5 +1,6 @@
 """A look: what a hand sees of a pane from afar, and types into it."""
 
+from attachhall.bounds import is_within
 from attachhall.errors import BadLook, BadSign, NoLook
 from attachhall.mail import LEFT, TYPED, look_letter, read_hall_letter
 from attachhall.panes import MOST_PANES, wrong_place
@@ -13,11 +14,11 @@ LETTER_SIGNS = 1000
 
 def check_look(name, session, pane):
     """Refuse a name, a session or a pane's number that no look has."""
-    if name < 0 or name >= NAMES:
+    if not is_within(name, 0, NAMES - 1):
         raise BadLook(f"no name of a look: {name}")
-    if session < 1 or session > SESSIONS:
+    if not is_within(session, 1, SESSIONS):
         raise BadLook(f"no session of a look: {session}")
-    if pane < 0 or pane >= MOST_PANES:
+    if not is_within(pane, 0, MOST_PANES - 1):
         raise BadLook(f"no pane of a look: {pane}")
 
 

@@ -1,5 +1,6 @@
 """A pane: rows, a line that is typed, and perhaps a job that goes on by beats."""
 
+from attachhall.bounds import is_within
 from attachhall.errors import BadSign
 from attachhall.figures import number_of
 
@@ -86,7 +87,7 @@ class Pane:
     def since(self, number):
         """Tell the changes behind so many; None if they are not all kept."""
         first = self._changes - len(self._latest)
-        if number < first or number > self._changes:
+        if not is_within(number, first, self._changes):
             return None
         return self._latest[number - first:]
 

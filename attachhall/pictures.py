@@ -1,5 +1,6 @@
 """What a look of a given size shows of a pane."""
 
+from attachhall.bounds import is_within
 from attachhall.errors import BadSize
 
 NARROWEST = 2
@@ -10,9 +11,9 @@ HIGHEST = 20
 
 def check_size(wide, high):
     """Refuse a size that no picture has."""
-    if wide < NARROWEST or wide > WIDEST:
+    if not is_within(wide, NARROWEST, WIDEST):
         raise BadSize(f"{wide} is not {NARROWEST} to {WIDEST} wide")
-    if high < LOWEST or high > HIGHEST:
+    if not is_within(high, LOWEST, HIGHEST):
         raise BadSize(f"{high} is not {LOWEST} to {HIGHEST} high")
 
 

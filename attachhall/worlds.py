@@ -1,5 +1,6 @@
 """A world: a hall, looks, and a road on which their letters lie."""
 
+from attachhall.bounds import is_number, is_within
 from attachhall.errors import BadLook, NoLook
 from attachhall.hall import Hall
 from attachhall.looks import Look
@@ -71,7 +72,8 @@ class World:
         return len(self._road)
 
     def _check_there(self, name):
-        if name not in self._looks:
+        # A dict takes True for the name 1, and False for 0.
+        if not is_number(name) or name not in self._looks:
             raise NoLook(f"there is no look {name}")
 
     def _look(self, name):
@@ -80,7 +82,7 @@ class World:
 
     def _come(self, name, pane, wide, high):
         # Ahead of the look, which would refuse its size first.
-        if pane >= self._many:
+        if not is_within(pane, 0, self._many - 1):
             raise BadLook(f"there is no pane {pane}")
         session = self._sessions.get(name, 0) + 1
         # Made first: if it is refused, nothing of the name changes.
@@ -112,7 +114,7 @@ class World:
             self._looks[whom].hear(text)
 
     def _lies(self, at):
-        return at >= 0 and at < len(self._road)
+        return is_within(at, 0, len(self._road) - 1)
 
     def _lose(self, at):
         if self._lies(at):

@@ -48,6 +48,18 @@ class NewHallTest(unittest.TestCase):
                     with self.assertRaises(BadCount):
                         Hall(many).typed(pane)
 
+    def test_true_and_false_are_no_numbers(self):
+        for wrong in [True, False]:
+            with self.subTest(wrong=wrong):
+                with self.assertRaises(BadCount):
+                    Hall(wrong)
+                for many in [1, 2, 3]:
+                    hall = heard(Hall(many), look_at(0, 1, 0, "ab"))
+                    state = state_of_hall(hall)
+                    with self.assertRaises(BadCount):
+                        hall.typed(wrong)
+                    self.assertEqual(state_of_hall(hall), state)
+
     def test_what_tells_nothing_tells_none(self):
         self.assertIsNone(Hall(1).beat())
         self.assertIsNone(Hall(1).hear(""))

@@ -54,6 +54,18 @@ class NewLookTest(unittest.TestCase):
                 with self.assertRaises(BadSize):
                     Look(0, 1, 0, *size)
 
+    def test_true_and_false_are_no_numbers(self):
+        for told in [(True, 1, 0), (False, 1, 0), (0, True, 0), (0, False, 0), (0, 1, True), (0, 1, False)]:
+            # The size stands behind, so that the look is refused ahead of it.
+            for size in [(20, 5), (1, 5), (True, 5), (20, False)]:
+                with self.subTest(told=told, size=size):
+                    with self.assertRaises(BadLook):
+                        Look(*told, *size)
+        for size in [(True, 5), (False, 5), (20, True), (20, False)]:
+            with self.subTest(size=size):
+                with self.assertRaises(BadSize):
+                    Look(0, 1, 0, *size)
+
     def test_what_tells_nothing_tells_none(self):
         look = Look(0, 1, 0, 20, 5)
         self.assertIsNone(look.press("a"))
@@ -285,7 +297,8 @@ class ResizeTest(unittest.TestCase):
         look.press("say hello world;")
         joined(hall, look)
         state = state_of_look(look)
-        for size in [(1, 2), (41, 2), (6, 0), (6, 21), (1, 0), (40, 21), (41, 20), (FAR, 2), (6, -FAR)]:
+        for size in [(1, 2), (41, 2), (6, 0), (6, 21), (1, 0), (40, 21), (41, 20), (FAR, 2), (6, -FAR),
+                     (True, 2), (False, 2), (6, True), (6, False)]:
             with self.subTest(size=size):
                 with self.assertRaises(BadSize):
                     look.resize(*size)

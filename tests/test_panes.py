@@ -338,6 +338,12 @@ class SinceTest(unittest.TestCase):
         self.assertEqual(pane.since(1), [("line", "ab"), ("line", "abc")])
         self.assertEqual(pane.since(0), [("line", "a"), ("line", "ab"), ("line", "abc")])
 
+    def test_true_and_false_are_no_counts(self):
+        for signs in ["", "a", "abc"]:
+            for wrong in [True, False]:
+                with self.subTest(signs=signs, wrong=wrong):
+                    self.assertIsNone(pane_after(signs).since(wrong))
+
     def test_thirty_back_and_one_more(self):
         pane = pane_after(LETTERS + "0123")
         self.assertEqual(len(pane.since(0)), 30)

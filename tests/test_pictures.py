@@ -75,6 +75,13 @@ class SizeTest(unittest.TestCase):
                 with self.assertRaises(BadSize):
                     view(["a"], "b", wide, high)
 
+    def test_true_and_false_are_no_sizes(self):
+        for wide, high in [(True, 5), (False, 5), (5, True), (5, False), (True, True), (False, 0), (0, False)]:
+            with self.subTest(wide=wide, high=high):
+                with self.assertRaises(BadSize):
+                    view(["a"], "b", wide, high)
+        self.assertEqual(view(["a"], "b", 5, 1), ["> b"])
+
 
 class ListsTest(unittest.TestCase):
     def test_the_list_handed_in_stays(self):

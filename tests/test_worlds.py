@@ -46,6 +46,13 @@ class NewWorldTest(unittest.TestCase):
                 with self.assertRaises(BadCount):
                     World(2).typed(pane)
 
+    def test_true_and_false_are_no_numbers_of_panes(self):
+        for wrong in [True, False]:
+            with self.subTest(wrong=wrong):
+                for make in [World, lambda many: played(many, []), World(1).typed, World(3).typed]:
+                    with self.assertRaises(BadCount):
+                        make(wrong)
+
     def test_each_step_tells_none(self):
         world = World(1)
         for step in [("come", 0, 0, 20, 5), ("press", 0, "a"), ("size", 0, 2, 1), ("send",), ("beat",),
@@ -77,7 +84,13 @@ class ComeTest(unittest.TestCase):
                 (1, ("come", 0, -1, 20, 5), BadLook), (1, ("come", 0, FAR, 20, 5), BadLook),
                 (1, ("come", 0, 1, 1, 5), BadLook), (1, ("come", 4, 0, 20, 0), BadLook),
                 (1, ("come", 0, 0, 1, 5), BadSize), (1, ("come", 0, 0, 41, 5), BadSize),
-                (1, ("come", 0, 0, 20, 0), BadSize), (1, ("come", 0, 0, 20, 21), BadSize)]:
+                (1, ("come", 0, 0, 20, 0), BadSize), (1, ("come", 0, 0, 20, 21), BadSize),
+                (1, ("come", True, 0, 20, 5), BadLook), (1, ("come", False, 0, 20, 5), BadLook),
+                (1, ("come", 0, True, 20, 5), BadLook), (1, ("come", 0, False, 20, 5), BadLook),
+                (2, ("come", 0, True, 20, 5), BadLook), (3, ("come", 0, True, True, 5), BadLook),
+                (1, ("come", False, 0, 1, 5), BadLook), (1, ("come", 0, False, 20, 0), BadLook),
+                (1, ("come", 0, 0, True, 5), BadSize), (1, ("come", 0, 0, False, 5), BadSize),
+                (1, ("come", 0, 0, 20, True), BadSize), (1, ("come", 0, 0, 20, False), BadSize)]:
             with self.subTest(many=many, step=step):
                 world = played(many, [("come", 0, 0, 20, 5), ("press", 0, "a"), ("settle",)])
                 state = state_of(world, many)
@@ -101,6 +114,19 @@ class LookStepsTest(unittest.TestCase):
                         world.do(step)
                     self.assertEqual(state_of(world), state)
 
+    def test_true_and_false_are_no_names(self):
+        for name in [True, False]:
+            for step in [("press", name, "a"), ("press", name, "A"), ("size", name, 20, 5), ("size", name, True, 99),
+                         ("leave", name), ("gone", name)]:
+                with self.subTest(step=step):
+                    world = played(1, [("come", 0, 0, 20, 5), ("come", 1, 0, 20, 5), ("settle",)])
+                    state = state_of(world)
+                    with self.assertRaises(NoLook):
+                        world.do(step)
+                    self.assertEqual(state_of(world), state)
+                    # None of them left unseen.
+                    doing(world, ("press", 0, "a"), ("press", 1, "b"))
+
     def test_press(self):
         world = played(1, [("come", 1, 0, 20, 5), ("press", 1, "ab"), ("press", 1, ""), ("press", 1, "c")])
         self.assertEqual(world.shown(), [(1, 1, [], None, 3)])
@@ -115,7 +141,7 @@ class LookStepsTest(unittest.TestCase):
     def test_size(self):
         world = played(1, [("come", 1, 0, 20, 5), ("press", 1, "abc"), ("settle",), ("size", 1, 2, 2)])
         self.assertEqual(world.shown(), [(1, 1, ["ab", "c"], 3, 0)])
-        for size in [(1, 2), (41, 2), (2, 0), (2, 21)]:
+        for size in [(1, 2), (41, 2), (2, 0), (2, 21), (True, 2), (False, 2), (2, True), (2, False)]:
             with self.assertRaises(BadSize):
                 world.do(("size", 1, *size))
         self.assertEqual(world.shown(), [(1, 1, ["ab", "c"], 3, 0)])
@@ -201,6 +227,15 @@ class RoadTest(unittest.TestCase):
                 self.assertEqual(world.waits(), waits)
                 doing(world, ("carry", 2))
                 self.assertEqual(world.panes()[0][1], line)
+
+    def test_true_and_false_are_no_letters(self):
+        for at in [True, False]:
+            for step in [("lose", at), ("twice", at), ("cut", at, 0)]:
+                with self.subTest(step=step):
+                    world = doing(world_with_letters(), step)
+                    self.assertEqual(state_of(world), state_of(world_with_letters()))
+                    doing(world, ("carry", 2))
+                    self.assertEqual(state_of(world), state_of(doing(world_with_letters(), ("carry", 2))))
 
     def test_twice(self):
         for at, line in [(0, "abcd"), (1, "ab"), (2, "ab"), (FAR, "ab"), (-1, "ab"), (-2, "ab")]:
